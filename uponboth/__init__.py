@@ -1,0 +1,1 @@
+"""Terms of a self-distributive operation."""
