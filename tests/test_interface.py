@@ -49,13 +49,53 @@ SIGNATURES = {
         "reduction_moves": "(word)",
         "equivalent": "(one, other)",
     },
+    "ordering": {
+        "compare": "(one, other)",
+        "certificate": "(one, other)",
+        "check_certificate": "(one, other, claimed)",
+        "sort_terms": "(terms)",
+        "least_term": "(terms)",
+    },
+    "tables": {
+        "Table": "(size)",
+        "Table.apply": "(one, other)",
+        "Table.period": "(element)",
+        "Table.row_values": "(element)",
+        "Table.compose": "(one, other)",
+        "Table.evaluate": "(term)",
+        "Table.project": "(element, *, size=0)",
+        "separating_table": "(one, other, *, limit=9)",
+    },
+    "models": {
+        "first_violation": "(model)",
+        "value_of": "(model, start, term)",
+        "generated_values": "(model, start)",
+        "affine_model": "(modulus, *, factor=2)",
+        "product_model": "(one, other)",
+        "table_model": "(size)",
+        "homomorphism": "(one, start, other, goal)",
+    },
 }
 
 
 def listed_functions(document, module):
-    """The functions that the document lists for a module, each with its parameters."""
+    """The functions, classes and methods that the document lists for a module, each with its parameters."""
     part = document.split(f"## uponboth/{module}.py\n")[1].split("\n## ")[0]
-    return dict(re.findall(r"^- `(\w+)(\(.*?\))`:", part, re.MULTILINE))
+    found = {}
+    for entry in re.findall(r"^- (?:class )?(`.*?`(?:, `.*?`)*):", part, re.MULTILINE):
+        for name, parameters in re.findall(r"`([\w.]+)(\(.*?\))`", entry):
+            found[name] = parameters.replace("MAX_TABLE", "9").replace('"', "'")
+    return found
+
+
+def parameters_of(module, name):
+    """The parameters of a function, a class or a method, without the first one of a method."""
+    owner, dot, method = name.partition(".")
+    found = getattr(module, owner)
+    if not dot:
+        return str(inspect.signature(found))
+    # The class itself has the method, not only a base class.
+    return re.sub(r"^\(self(, )?", "(", str(inspect.signature(vars(found)[method])))
 
 
 class InterfaceTests(unittest.TestCase):
@@ -64,7 +104,7 @@ class InterfaceTests(unittest.TestCase):
             found = importlib.import_module(f"uponboth.{module}")
             for name, parameters in functions.items():
                 with self.subTest(module=module, name=name):
-                    self.assertEqual(str(inspect.signature(getattr(found, name))), parameters)
+                    self.assertEqual(parameters_of(found, name), parameters)
 
     @unittest.skipUnless(DOCUMENT.exists(), "the document is not beside the project")
     def test_document_lists_the_same(self):

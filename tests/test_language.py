@@ -26,6 +26,13 @@ BARRED_NODES = (
     ast.Global, ast.AsyncFunctionDef, ast.AsyncFor, ast.AsyncWith, ast.Await, ast.Div, ast.MatMult, ast.Import,
     ast.MatchClass, ast.MatchMapping,
 )
+BUILTIN_METHODS = set(
+    "append clear copy count endswith extend find get index insert isalnum isalpha isdigit islower isspace isupper "
+    "items join keys ljust lower lstrip partition pop remove replace reverse rfind rjust rpartition rsplit rstrip "
+    "setdefault split splitlines startswith strip update upper values zfill bit_length title capitalize swapcase "
+    "casefold center expandtabs removeprefix removesuffix rindex isascii isdecimal isnumeric istitle isidentifier "
+    "isprintable translate".split()
+)
 MODULE_LEVEL = (ast.ImportFrom, ast.FunctionDef, ast.ClassDef, ast.Assign)
 
 
@@ -141,6 +148,43 @@ class LanguageTests(unittest.TestCase):
             if name.startswith("_"):
                 self.assertIn(name, METHODS)
         self.assertEqual(methods & attributes, set())
+
+    def test_called_methods(self):
+        own = set()
+        for path, text, tree in self.each():
+            for node in ast.walk(tree):
+                if isinstance(node, ast.ClassDef):
+                    own.update(part.name for part in node.body if isinstance(part, ast.FunctionDef))
+        for path, text, tree in self.each():
+            for node in ast.walk(tree):
+                if isinstance(node, ast.Call) and isinstance(node.func, ast.Attribute):
+                    self.assertIn(node.func.attr, own | BUILTIN_METHODS, node.lineno)
+
+    def test_lists_instead_of_generator_expressions(self):
+        # Classes of the package have __eq__, so these take lists.
+        for path, text, tree in self.each():
+            for node in ast.walk(tree):
+                if isinstance(node, ast.Call) and isinstance(node.func, ast.Name):
+                    if node.func.id in ("any", "all", "min", "max", "sum", "sorted"):
+                        self.assertNotIsInstance(node.args[0], ast.GeneratorExp, node.lineno)
+
+    def test_imports_have_one_direction(self):
+        after = {}
+        for path, text, tree in self.each():
+            names = [node.module.split(".")[1] for node in ast.walk(tree) if isinstance(node, ast.ImportFrom)]
+            after[path.stem] = set(names)
+        while after:
+            free = [name for name in after if not after[name] & set(after)]
+            self.assertNotEqual(free, [])
+            for name in free:
+                del after[name]
+
+    def test_imported_names_are_used(self):
+        for path, text, tree in self.each():
+            used = {node.id for node in ast.walk(tree) if isinstance(node, ast.Name)}
+            for node in tree.body:
+                if isinstance(node, ast.ImportFrom):
+                    self.assertLessEqual({name.name for name in node.names}, used)
 
 
 if __name__ == "__main__":
