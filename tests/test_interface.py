@@ -75,7 +75,50 @@ SIGNATURES = {
         "table_model": "(size)",
         "homomorphism": "(one, start, other, goal)",
     },
+    "programs": {
+        "Program": "(text='')",
+        "Program.add_definition": "(text)",
+        "Program.names": "()",
+        "Program.size_of": "(name)",
+        "Program.depth_of": "(name)",
+        "Program.term": "(name)",
+        "Program.evaluate": "(name, *, size=3)",
+        "Program.source": "()",
+    },
+    "store": {
+        "Store": "()",
+        "Store.undo": "()",
+        "Store.redo": "()",
+        "Store.history": "()",
+        "Store.clone": "()",
+        "Store.term": "(label)",
+        "Store.labels": "()",
+        "Store.classes": "()",
+        "Store.equal_to": "(label)",
+        "Store.less_than": "(label)",
+        "Store.compare": "(one, other)",
+    },
+    "snapshots": {
+        "dump": "(store)",
+        "load": "(text)",
+    },
+    "console": {
+        "Console": "(store=None)",
+        "Console.execute": "(line)",
+        "Console.store": "()",
+        "Console.transcript": "()",
+    },
 }
+# The commands of [22] stand outside of the list of the interface.
+COMMANDS = {
+    "Store.add": "(label, term)",
+    "Store.combine": "(label, left, right)",
+    "Store.extract": "(label, source, *, right=False)",
+    "Store.rewrite": "(label, path, *, contract=False)",
+    "Store.delete": "(label)",
+    "Store.batch": "(commands)",
+}
+CONSTANTS = {"terms": {"MAX_SIZE": 12, "MAX_DEPTH": 6}, "tables": {"MAX_TABLE": 9}}
 
 
 def listed_functions(document, module):
@@ -106,11 +149,27 @@ class InterfaceTests(unittest.TestCase):
                 with self.subTest(module=module, name=name):
                     self.assertEqual(parameters_of(found, name), parameters)
 
+    def test_commands(self):
+        found = importlib.import_module("uponboth.store")
+        for name, parameters in COMMANDS.items():
+            with self.subTest(name):
+                self.assertEqual(parameters_of(found, name), parameters)
+
+    def test_constants(self):
+        for module, constants in CONSTANTS.items():
+            found = importlib.import_module(f"uponboth.{module}")
+            for name, value in constants.items():
+                self.assertEqual(getattr(found, name), value)
+
     @unittest.skipUnless(DOCUMENT.exists(), "the document is not beside the project")
     def test_document_lists_the_same(self):
         document = DOCUMENT.read_text()
         for module, functions in SIGNATURES.items():
             self.assertEqual(listed_functions(document, module), functions)
+        modules = re.findall(r"^## uponboth/(\w+)\.py$", document, re.MULTILINE)
+        self.assertEqual(modules, ["errors", *SIGNATURES])
+        for name, parameters in COMMANDS.items():
+            self.assertIn("`" + name.removeprefix("Store.") + parameters + "`", document)
 
 
 if __name__ == "__main__":

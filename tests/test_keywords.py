@@ -4,12 +4,32 @@ import importlib
 import inspect
 import unittest
 
-from tests.test_interface import SIGNATURES
+from tests.test_interface import COMMANDS, SIGNATURES
+from uponboth.console import Console
+from uponboth.store import Store
 
 PAIR = ((), ())
 THREE = ((), PAIR)
 MODEL = ((0, 0), (1, 0))
-# For each function the arguments of some calls, by name; for a method also the object.
+SOURCE = {"text": "A=(xx);B=A^3_2"}
+
+
+def some_store():
+    store = Store()
+    store.batch([("add", "a", THREE), ("add", "b", (PAIR, PAIR)), ("add", "c", ())])
+    store.add("d", PAIR)
+    store.undo()
+    return store
+
+
+def some_console():
+    console = Console(some_store())
+    console.execute("order")
+    return console
+
+
+# For each function the arguments of some calls, by name; for a method also the
+# arguments that its object is made of, or a function that makes the object.
 CALLS = {
     "terms.is_term": [{"term": PAIR}, {"term": ((),)}],
     "terms.size_of": [{"term": THREE}],
@@ -61,6 +81,43 @@ CALLS = {
     "models.product_model": [{"one": MODEL, "other": ((1, 2, 0),) * 3}],
     "models.table_model": [{"size": 2}],
     "models.homomorphism": [{"one": ((1, 1), (0, 1)), "start": 0, "other": ((0,),), "goal": 0}],
+    "programs.Program": [{}, SOURCE],
+    "programs.Program.add_definition": [(SOURCE, {"text": "C=(AB)"})],
+    "programs.Program.names": [(SOURCE, {})],
+    "programs.Program.size_of": [(SOURCE, {"name": "B"})],
+    "programs.Program.depth_of": [(SOURCE, {"name": "B"})],
+    "programs.Program.term": [(SOURCE, {"name": "A"})],
+    "programs.Program.evaluate": [(SOURCE, {"name": "B"}), (SOURCE, {"name": "B", "size": 7})],
+    "programs.Program.source": [(SOURCE, {})],
+    "store.Store": [{}],
+    "store.Store.add": [(some_store, {"label": "e", "term": THREE})],
+    "store.Store.combine": [(some_store, {"label": "e", "left": "a", "right": "c"})],
+    "store.Store.extract": [
+        (some_store, {"label": "e", "source": "a"}),
+        (some_store, {"label": "e", "source": "a", "right": True}),
+    ],
+    "store.Store.rewrite": [
+        (some_store, {"label": "a", "path": ""}),
+        (some_store, {"label": "b", "path": "", "contract": True}),
+    ],
+    "store.Store.delete": [(some_store, {"label": "a"})],
+    "store.Store.batch": [(some_store, {"commands": [("delete", "a"), ("add", "e", ())]})],
+    "store.Store.undo": [(some_store, {})],
+    "store.Store.redo": [(some_store, {})],
+    "store.Store.history": [(some_store, {})],
+    "store.Store.clone": [(some_store, {})],
+    "store.Store.term": [(some_store, {"label": "a"})],
+    "store.Store.labels": [(some_store, {})],
+    "store.Store.classes": [(some_store, {})],
+    "store.Store.equal_to": [(some_store, {"label": "b"})],
+    "store.Store.less_than": [(some_store, {"label": "b"})],
+    "store.Store.compare": [(some_store, {"one": "a", "other": "c"})],
+    "snapshots.dump": [{"store": some_store()}],
+    "snapshots.load": [{"text": "a x\nb (xx)\n"}],
+    "console.Console": [{}, {"store": some_store()}],
+    "console.Console.execute": [(some_console, {"line": "expand a -"}), ({}, {"line": "order"})],
+    "console.Console.store": [(some_console, {})],
+    "console.Console.transcript": [(some_console, {})],
 }
 
 
@@ -92,9 +149,25 @@ def functions_of(name, arguments):
     return (lambda: getattr(made() if callable(made) else found(**made), method[0])), arguments
 
 
+def shown(value):
+    """A value, or what can be compared of an object that has no == of its own."""
+    if isinstance(value, Store):
+        return (value, value.history())
+    if isinstance(value, Console):
+        return (value.store(), value.store().history(), value.transcript())
+    return value
+
+
+def outcome(function, positional, named):
+    """What a call returns, and the object of a method after the call."""
+    result = function(*positional, **named)
+    return shown(result), shown(getattr(function, "__self__", None))
+
+
 class KeywordTests(unittest.TestCase):
     def test_every_function_is_called(self):
         listed = [f"{module}.{name}" for module, functions in SIGNATURES.items() for name in functions]
+        listed += [f"store.{name}" for name in COMMANDS]
         self.assertEqual(sorted(CALLS), sorted(listed))
 
     def test_calls(self):
@@ -102,10 +175,10 @@ class KeywordTests(unittest.TestCase):
             for call in calls:
                 function, arguments = functions_of(name, call)
                 positional, alone = split_arguments(function(), arguments)
-                expected = function()(*positional, **alone)
+                expected = outcome(function(), positional, alone)
                 for by_position, named in ways_of_passing(arguments, positional, alone):
                     with self.subTest(name=name, named=list(named)):
-                        self.assertEqual(function()(*by_position, **named), expected)
+                        self.assertEqual(outcome(function(), by_position, named), expected)
 
     def test_defaults(self):
         for name, calls in CALLS.items():
@@ -116,7 +189,8 @@ class KeywordTests(unittest.TestCase):
                 omitted = {key: value for key, value in defaults.items() if key not in arguments}
                 if omitted:
                     with self.subTest(name=name, omitted=omitted):
-                        self.assertEqual(function()(**arguments, **omitted), function()(**arguments))
+                        expected = outcome(function(), (), arguments)
+                        self.assertEqual(outcome(function(), (), {**arguments, **omitted}), expected)
 
 
 if __name__ == "__main__":

@@ -17,7 +17,8 @@ class TooLarge(TermError):
     """A result would be too large; size says how large."""
 
     def __init__(self, size):
-        super().__init__(f"the size {size} is too large")
+        # The size may have more digits than Python writes out, so the message leaves it out.
+        super().__init__("the result would be too large")
         self.size = size
 
 

@@ -7,10 +7,11 @@ MAX_TABLE = 9
 
 
 class Table:
-    """The table of a size from 0 to 9, with the elements from 1 to 2 to the power of the size."""
+    """The table of a size from 0 to 9, whose last element is 2 to the power of the size."""
 
     def __init__(self, size):
-        check_table_size(size)
+        if not 0 <= size <= MAX_TABLE:
+            raise InvalidSize("the size of a table is from 0 to 9")
         self.size = size
         self.rows = rows_to_periods(1 << size)
 
@@ -67,11 +68,6 @@ class Table:
         return projected(element, size)
 
 
-def check_table_size(size):
-    if not 0 <= size <= MAX_TABLE:
-        raise InvalidSize("the size of a table is from 0 to 9")
-
-
 def rows_to_periods(last):
     """Return the row of each element up to its period, where last is the last element."""
     rows = [[]] * last
@@ -99,7 +95,6 @@ def separating_table(one, other, *, limit=MAX_TABLE):
     """Return the size of the least table that separates two terms and their values there, or None."""
     check_term(one)
     check_term(other)
-    check_table_size(limit)
     # The values in the smaller tables are the projections of those in the largest one.
     table = Table(limit)
     first, second = table.evaluate(one), table.evaluate(other)
